@@ -1,0 +1,1 @@
+"""A mail house whose rule books are judged for all orders of events."""

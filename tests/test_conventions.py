@@ -1,0 +1,121 @@
+"""The conventions: [2], [3], [4], as far as they are not tested beside what they speak of."""
+
+import unittest
+
+from filedalike.always import View, borne, fitting, thread_marks, view_of
+from filedalike.book import Book, OtherGround
+from filedalike.errors import Clash, MailError
+from filedalike.fitting import alike_kinds, coverings, unfit_rules
+from filedalike.forest import Forest
+from filedalike.headrows import BadRow, read_letters, written_letters
+from filedalike.joins import chain, each_join, join_of, together_since
+from filedalike.kinds import BadTest, NoKind, barred, kind_of, kinds, letter_of, read_test, sender_kinds
+from filedalike.letters import BadLetter, Letter
+from filedalike.rules import BadBook, NoRule, NotTurnable
+from filedalike.strata import RingThroughLacks
+from filedalike.threads import Threads
+
+ERRORS = (
+    (Clash, "number"), (BadLetter, "field"), (BadRow, "row"), (BadTest, "told"), (NoKind, "kind"), (BadBook, "row"),
+    (NoRule, "number"), (NotTurnable, "number"), (RingThroughLacks, "ring"), (OtherGround, "part"),
+)
+LETTERS = (Letter(5, "a", "b", answers=(9, 2)), Letter(7, "a", "b"), Letter(9, "a", "b", answers=(7,)))
+TEXT = "\n".join([
+    "mark a by hand", "mark b", "standing s", "test word x", "test words 2", "rule coming mark a if test 1",
+    "rule always mark b if thread a",
+])
+
+
+class Errors(unittest.TestCase):
+    def test_the_base_of_all_errors(self):
+        self.assertEqual(MailError.__bases__, (ValueError,))
+
+    def test_each_error_stands_directly_below_the_base(self):
+        for made, _ in ERRORS:
+            self.assertEqual(made.__bases__, (MailError,), made)
+
+    def test_errors_keep_what_they_are_given(self):
+        for made, name in ERRORS:
+            for value in (3, "word", ("a", None), 10 ** 5000):
+                self.assertIs(getattr(made(value), name), value)
+
+    def test_errors_can_be_shown(self):
+        for made, _ in ERRORS:
+            self.assertIsInstance(str(made(7)), str)
+
+
+class Copies(unittest.TestCase):
+    def test_lists_that_are_passed_stay_as_they_are(self):
+        letters = list(LETTERS)
+        tests = [read_test("word x"), read_test("words 2")]
+        written_letters(letters)
+        for made in (Threads.of(letters), Forest.of(letters)):
+            self.assertEqual(len(made) > 0, True)
+        list(each_join(letters))
+        together_since(letters, 5, 7)
+        kinds(tests)
+        kind_of(tests, LETTERS[0])
+        barred(tests, (True, False))
+        self.assertEqual(letters, list(LETTERS))
+        self.assertEqual([test.written() for test in tests], ["word x", "words 2"])
+
+    def test_threads_that_are_asked_stay_as_they_are(self):
+        threads = Threads.of(LETTERS[:2])
+        before = threads.summary()
+        join_of(threads, LETTERS[2])
+        chain(threads, 5, 9)
+        self.assertEqual(threads.summary(), before)
+        self.assertEqual(list(threads), [5, 7])
+
+    def test_every_list_is_new(self):
+        book = Book.read(TEXT)
+        tests = list(book.tests)
+        text = written_letters(LETTERS)
+        calls = (
+            lambda: read_letters(text), lambda: kinds(tests), lambda: sender_kinds(tests), lambda: unfit_rules(book),
+            lambda: alike_kinds(book), lambda: coverings(book), book.layers, Threads.of(LETTERS).summary,
+            Forest.of(LETTERS).summary, Forest.of(LETTERS).drawn,
+        )
+        for call in calls:
+            first, second = call(), call()
+            self.assertIsInstance(first, list)
+            self.assertEqual(first, second)
+            self.assertIsNot(first, second)
+            first.append(None)
+            self.assertEqual(call(), second)
+
+    def test_books_and_views_that_are_asked_stay_as_they_are(self):
+        book, view = Book.read(TEXT), View(["a"], [2])
+        marks, own = ["a"], ["b"]
+        self.assertEqual(thread_marks(book, view), ("a", "b"))
+        borne(book, (True, True), own, marks)
+        fitting(book, (True, True))
+        view_of(book, [((True, True), own)])
+        book.turned(1)
+        book.without(1)
+        book.with_rules([book[2]])
+        self.assertEqual((book.written(), view.key(), marks, own), (TEXT, (("a",), (2,)), ["a"], ["b"]))
+
+
+class Clashes(unittest.TestCase):
+    def test_letters_clash_if_anything_is_unlike(self):
+        told = {"answers": (2, 3), "subject": ("s",), "words": ("w",)}
+        letter = Letter(1, "a", "b", **told)
+        others = [
+            Letter(1, "c", "b", **told), Letter(1, "a", "c", **told), Letter(1, "a", "b", **dict(told, answers=(3, 2))),
+            Letter(1, "a", "b", **dict(told, subject=())), Letter(1, "a", "b", **dict(told, words=("w", "w"))),
+        ]
+        for made in (Threads, Forest):
+            for other in others:
+                with self.assertRaises(Clash) as caught:
+                    made.of([letter, other])
+                self.assertEqual(caught.exception.number, 1)
+            self.assertIs(made.of([letter]).put(Letter(1, "a", "b", **told)), False)
+
+    def test_plain_letters_of_equal_kinds_are_equal(self):
+        tests = [read_test("word x")]
+        self.assertEqual(letter_of(tests, (True,)), letter_of(tuple(tests), (True,)))
+
+
+if __name__ == "__main__":
+    unittest.main()
