@@ -88,12 +88,10 @@ def steps_to(links, goal):
     """How many links lead from each number to the goal: a dict."""
     steps = {goal: 0}
     edge = [goal]
+    many = 0
     while edge:
-        farther = []
-        for number in edge:
-            for other in links[number]:
-                if other not in steps:
-                    steps[other] = steps[number] + 1
-                    farther.append(other)
-        edge = farther
+        many += 1
+        edge = sorted({other for number in edge for other in links[number] if other not in steps})
+        for reached in edge:
+            steps[reached] = many
     return steps
