@@ -1,5 +1,6 @@
 """Always-rules: views of threads, and the marks that threads have and letters bear."""
 
+from filedalike.names import those_in
 from filedalike.rules import Mode
 
 
@@ -21,20 +22,24 @@ class View:
         return isinstance(other, View) and self.marks == other.marks and self.rules == other.rules
 
 
+def union_of(first, second):
+    """The key of the union of two views that are told by their keys."""
+    return tuple(sorted(set(first[0] + second[0]))), tuple(sorted(set(first[1] + second[1])))
+
+
 def thread_marks(book, view):
     """The marks that a thread with this view has, in book order. Raises RingThroughLacks."""
-    had = [mark for mark, _, _ in ranked_marks(book, view)]
-    return tuple([mark for mark in book.marks if mark in had])
+    return those_in(book.marks, [mark for mark, _, _ in ranked_marks(book, view)])
 
 
 def ranked_marks(book, view):
     """Tuples (mark, stratum, rank) of the marks had, by stratum, rank and book order. Raises RingThroughLacks."""
     layers = book.layers()
-    rules = [rule for rule in always_rules(book) if rule.number in view.rules]
+    rules = rules_in_view(book, view)
     ranked = []
     for stratum, layer in enumerate(layers):
         rank = 0
-        given = [mark for mark in layer if mark in view.marks]
+        given = list(those_in(layer, view.marks))
         # Putting nothing does not end a stratum, giving nothing does.
         while given or rank == 0:
             ranked = ranked + [(mark, stratum, rank) for mark in given]
@@ -52,6 +57,11 @@ def is_given(mark, rules, had):
 def always_rules(book):
     """The always-rules of a book, a list."""
     return [rule for rule in book.rules if rule.mode == Mode.ALWAYS]
+
+
+def rules_in_view(book, view):
+    """The always-rules of a book whose numbers a view has, a list."""
+    return [rule for rule in always_rules(book) if rule.number in view.rules]
 
 
 def fitting(book, kind):

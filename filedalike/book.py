@@ -4,7 +4,7 @@ from filedalike.bookrows import BookRows
 from filedalike.errors import MailError
 from filedalike.rulerows import read_rule_row
 from filedalike.rules import BadBook, Mode, NoRule, NotTurnable
-from filedalike.strata import RingThroughLacks, ring_of, strata_of
+from filedalike.strata import check_ring, ring_of, strata_of
 
 
 class OtherGround(MailError):
@@ -53,8 +53,7 @@ class Book:
 
     def layers(self):
         """The marks of each stratum, a list of lists. Raises RingThroughLacks."""
-        if self.ring is not None:
-            raise RingThroughLacks(self.ring)
+        check_ring(self)
         return [
             [mark for mark, stratum in zip(self.marks, self.strata) if stratum == at]
             for at in range(max(self.strata, default=-1) + 1)
@@ -71,6 +70,12 @@ class Book:
         if self.hand_standings != other.hand_standings:
             return "hand_standings"
         return "tests" if self.tests != other.tests else None
+
+    def check_ground(self, other):
+        """Raise OtherGround if another book is not over the same ground."""
+        part = self.differs(other)
+        if part is not None:
+            raise OtherGround(part)
 
     def same_ground(self, other):
         """Whether another book is over the same ground."""

@@ -12,6 +12,12 @@ class RingThroughLacks(MailError):
         self.ring = ring
 
 
+def check_ring(book):
+    """Raise RingThroughLacks if the book has a ring."""
+    if book.ring is not None:
+        raise RingThroughLacks(book.ring)
+
+
 def dependences(rules):
     """What depends on what: tuples (rule number, mark given, mark wished, wish), by rule, then book order."""
     found = []

@@ -8,22 +8,30 @@ from filedalike.errors import Clash, MailError
 from filedalike.fitting import alike_kinds, coverings, unfit_rules
 from filedalike.forest import Forest
 from filedalike.headrows import BadRow, read_letters, written_letters
+from filedalike.house import BadEvent, House, NotByHand
 from filedalike.joins import chain, each_join, join_of, together_since
+from filedalike.kept import Kept, NoLetter
 from filedalike.kinds import BadTest, NoKind, barred, kind_of, kinds, letter_of, read_test, sender_kinds
 from filedalike.letters import BadLetter, Letter
 from filedalike.rules import BadBook, NoRule, NotTurnable
+from filedalike.senders import Senders
+from filedalike.stamps import walk
 from filedalike.strata import RingThroughLacks
+from filedalike.support import HasMark, NoMark, Reason, bars, derivation, first_fault
 from filedalike.threads import Threads
 
 ERRORS = (
     (Clash, "number"), (BadLetter, "field"), (BadRow, "row"), (BadTest, "told"), (NoKind, "kind"), (BadBook, "row"),
-    (NoRule, "number"), (NotTurnable, "number"), (RingThroughLacks, "ring"), (OtherGround, "part"),
+    (NoRule, "number"), (NotTurnable, "number"), (RingThroughLacks, "ring"), (OtherGround, "part"), (NoMark, "name"),
+    (HasMark, "name"), (NoLetter, "number"), (NotByHand, "name"), (BadEvent, "index"),
 )
 LETTERS = (Letter(5, "a", "b", answers=(9, 2)), Letter(7, "a", "b"), Letter(9, "a", "b", answers=(7,)))
 TEXT = "\n".join([
     "mark a by hand", "mark b", "standing s", "test word x", "test words 2", "rule coming mark a if test 1",
     "rule always mark b if thread a",
 ])
+
+EVENTS = tuple(("letter", letter) for letter in LETTERS) + (("mark", 5, "a"), ("seen", 9, True, 1, "d"))
 
 
 class Errors(unittest.TestCase):
@@ -76,6 +84,15 @@ class Copies(unittest.TestCase):
             lambda: alike_kinds(book), lambda: coverings(book), book.layers, Threads.of(LETTERS).summary,
             Forest.of(LETTERS).summary, Forest.of(LETTERS).drawn,
         )
+        house = House(book)
+        house.play(EVENTS)
+        senders = Senders(["s"])
+        senders.give("a at b", "s")
+        view = View(["a"], [2])
+        calls += (
+            house.deeds, lambda: house.play([]), senders.names, lambda: derivation(book, view),
+            lambda: bars(book, View(), "b"), lambda: walk(book, (True, True), (), ()),
+        )
         for call in calls:
             first, second = call(), call()
             self.assertIsInstance(first, list)
@@ -97,6 +114,17 @@ class Copies(unittest.TestCase):
         self.assertEqual((book.written(), view.key(), marks, own), (TEXT, (("a",), (2,)), ["a"], ["b"]))
 
 
+    def test_houses_leave_what_is_passed(self):
+        book, marks, events = Book.read(TEXT), ["b"], list(EVENTS)
+        kept = Kept(book)
+        kept.come(LETTERS[0], marks)
+        house = House(book)
+        house.play(events)
+        reasons = [Reason("a", 0, 0, has=marks)]
+        first_fault(book, View(), reasons)
+        self.assertEqual((marks, events, len(reasons), book.written()), (["b"], list(EVENTS), 1, TEXT))
+
+
 class Clashes(unittest.TestCase):
     def test_letters_clash_if_anything_is_unlike(self):
         told = {"answers": (2, 3), "subject": ("s",), "words": ("w",)}
@@ -105,6 +133,15 @@ class Clashes(unittest.TestCase):
             Letter(1, "c", "b", **told), Letter(1, "a", "c", **told), Letter(1, "a", "b", **dict(told, answers=(3, 2))),
             Letter(1, "a", "b", **dict(told, subject=())), Letter(1, "a", "b", **dict(told, words=("w", "w"))),
         ]
+        house, kept = House(Book.read("")), Kept(Book.read(""))
+        self.assertEqual((house.come(letter), kept.come(letter)), (True, True))
+        for other in others:
+            for come in (house.come, kept.come):
+                with self.assertRaises(Clash) as caught:
+                    come(other)
+                self.assertEqual(caught.exception.number, 1)
+        again = Letter(1, "a", "b", **told)
+        self.assertEqual((house.come(again), kept.come(again)), (False, False))
         for made in (Threads, Forest):
             for other in others:
                 with self.assertRaises(Clash) as caught:

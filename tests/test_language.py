@@ -1,4 +1,4 @@
-"""The sizes and characters of the files (L1, L10, L14), and where the names of the interface are defined."""
+"""Rules of the language that a test can see (L1, L10, L14, L23), and where the names of the interface are defined."""
 
 import ast
 import pathlib
@@ -46,7 +46,35 @@ INTERFACE = {
         "View": ("__init__", "__or__", "__eq__", "key"), "thread_marks": None, "fitting": None, "borne": None,
         "view_of": None,
     },
+    "support": {
+        "NoMark": (), "HasMark": (), "Reason": ("__init__", "written", "__eq__"), "derivation": None,
+        "first_fault": None, "bars": None,
+    },
+    "kept": {
+        "NoLetter": (),
+        "Kept": (
+            "__init__", "come", "put", "edit", "stamp_marks", "borne", "hand_marks_of", "thread_view", "marks_had",
+            "derivation_of", "joined_view", "why", "bearing", "each_thread",
+        ),
+    },
+    "stamps": {"Stamp": ("__init__", "written", "__eq__"), "stamp": None, "empty_stamp": None, "walk": None},
+    "senders": {
+        "is_sender": None,
+        "Senders": ("__init__", "give", "standings_of", "by_hand", "names", "__contains__", "__len__"),
+    },
+    "lastwords": {"LastWords": ("__init__", "say", "last", "seen", "numbers", "__or__", "__eq__")},
+    "house": {
+        "NotByHand": (), "BadEvent": (), "is_event": None,
+        "House": (
+            "__init__", "__len__", "__contains__", "__getitem__", "__iter__", "come", "put", "give", "see", "play",
+            "edit", "tried", "stamp_of", "sight_of", "marks_of", "hands_of", "thread_marks_of", "thread_of",
+            "members_of", "standings_of", "seen_of", "summary", "deeds", "anew",
+        ),
+    },
+    "views": {"Step": (), "step": None},
 }
+
+MODIFIERS = {"append", "extend", "insert", "remove", "pop", "clear", "reverse", "update", "setdefault"}
 
 
 def package_files():
@@ -85,6 +113,82 @@ class Files(unittest.TestCase):
                 for part in ast.walk(ast.parse(path.read_text())):
                     if isinstance(part, ast.FunctionDef):
                         self.assertTrue(part.end_lineno - part.lineno < 40, (path, part.name))
+
+
+def names_in(function):
+    """A function that gives one name to all expressions that a function assigns to one another."""
+    same = {}
+
+    def first(text):
+        while text in same:
+            text = same[text]
+        return text
+
+    for part in ast.walk(function):
+        if isinstance(part, ast.Assign):
+            values = [part.value]
+            if isinstance(part.value, ast.IfExp):
+                values = [part.value.body, part.value.orelse]
+            if isinstance(part.value, ast.BoolOp):
+                values = part.value.values
+            for value in values:
+                for target in part.targets:
+                    one, other = first(ast.unparse(target)), first(ast.unparse(value))
+                    if isinstance(value, (ast.Name, ast.Attribute, ast.Subscript)) and one != other:
+                        same[one] = other
+    return lambda part: first(ast.unparse(part))
+
+
+def walked_by(loop):
+    """What a loop walks as it is, without a copy."""
+    parts, found = [loop.iter], []
+    while parts:
+        part = parts.pop()
+        if isinstance(part, ast.Call) and isinstance(part.func, ast.Attribute):
+            parts += [part.func.value] if part.func.attr in ("items", "keys", "values") else []
+        elif isinstance(part, ast.Call) and part.func.id in ("enumerate", "zip", "reversed"):
+            parts += part.args
+        elif isinstance(part, (ast.Name, ast.Attribute)):
+            found.append(part)
+        elif isinstance(part, ast.Subscript):
+            found += [part, part.value]
+    return found
+
+
+def modified_in(loop):
+    """What the rows of a loop modify."""
+    for row in loop.body:
+        for part in ast.walk(row):
+            if isinstance(part, ast.Call) and isinstance(part.func, ast.Attribute) and part.func.attr in MODIFIERS:
+                yield part.func.value
+            if isinstance(part, ast.Subscript) and not isinstance(part.ctx, ast.Load):
+                yield part.value
+            if isinstance(part, ast.AugAssign):
+                yield part.target
+
+
+class Loops(unittest.TestCase):
+    def wrong_rows(self, text):
+        found = []
+        for function in ast.walk(ast.parse(text)):
+            if isinstance(function, ast.FunctionDef):
+                name = names_in(function)
+                for loop in ast.walk(function):
+                    if isinstance(loop, ast.For):
+                        walked = {name(part) for part in walked_by(loop)}
+                        found += [part.lineno for part in modified_in(loop) if name(part) in walked]
+        return found
+
+    def test_what_a_loop_walks_is_not_changed_in_it(self):
+        for path in package_files():
+            if path.is_file():
+                self.assertEqual(self.wrong_rows(path.read_text()), [], path)
+
+    def test_the_check_sees_other_names(self):
+        self.assertEqual(self.wrong_rows("def f(xs):\n for x in xs:\n  xs.append(x)"), [3])
+        self.assertEqual(self.wrong_rows("def f(xs):\n for x in xs:\n  ys = []\n  ys.append(x)\n  xs = ys"), [4])
+        self.assertEqual(self.wrong_rows("def f(d):\n for x in d.items():\n  d[x] = 1"), [3])
+        self.assertEqual(self.wrong_rows("def f(xs):\n for x in list(xs):\n  xs.append(x)"), [])
 
 
 class Interface(unittest.TestCase):
