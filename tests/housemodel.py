@@ -1,4 +1,4 @@
-"""A slow and plain house, and random rows of events for it; it shares no code with the package but letters and books."""
+"""A slow and plain house that shares no code with the package but letters and books, and random events for it."""
 
 from filedalike.kinds import kind_of
 from filedalike.letters import Letter

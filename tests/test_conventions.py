@@ -4,6 +4,7 @@ import unittest
 
 from filedalike.always import View, borne, fitting, thread_marks, view_of
 from filedalike.book import Book, OtherGround
+from filedalike.closure import Closure, NoView
 from filedalike.errors import Clash, MailError
 from filedalike.fitting import alike_kinds, coverings, unfit_rules
 from filedalike.forest import Forest
@@ -12,18 +13,23 @@ from filedalike.house import BadEvent, House, NotByHand
 from filedalike.joins import chain, each_join, join_of, together_since
 from filedalike.kept import Kept, NoLetter
 from filedalike.kinds import BadTest, NoKind, barred, kind_of, kinds, letter_of, read_test, sender_kinds
+from filedalike.leastsets import blockers, least_of
 from filedalike.letters import BadLetter, Letter
+from filedalike.orders import judge
+from filedalike.plainrun import plain_run
 from filedalike.rules import BadBook, NoRule, NotTurnable
 from filedalike.senders import Senders
 from filedalike.stamps import walk
 from filedalike.strata import RingThroughLacks
 from filedalike.support import HasMark, NoMark, Reason, bars, derivation, first_fault
 from filedalike.threads import Threads
+from filedalike.turnings import Turnings
+from filedalike.viewcheck import senders_told, threads_told
 
 ERRORS = (
     (Clash, "number"), (BadLetter, "field"), (BadRow, "row"), (BadTest, "told"), (NoKind, "kind"), (BadBook, "row"),
     (NoRule, "number"), (NotTurnable, "number"), (RingThroughLacks, "ring"), (OtherGround, "part"), (NoMark, "name"),
-    (HasMark, "name"), (NoLetter, "number"), (NotByHand, "name"), (BadEvent, "index"),
+    (HasMark, "name"), (NoLetter, "number"), (NotByHand, "name"), (BadEvent, "index"), (NoView, "view"),
 )
 LETTERS = (Letter(5, "a", "b", answers=(9, 2)), Letter(7, "a", "b"), Letter(9, "a", "b", answers=(7,)))
 TEXT = "\n".join([
@@ -92,6 +98,14 @@ class Copies(unittest.TestCase):
         calls += (
             house.deeds, lambda: house.play([]), senders.names, lambda: derivation(book, view),
             lambda: bars(book, View(), "b"), lambda: walk(book, (True, True), (), ()),
+        )
+        closure, bound = Closure(book), judge(Book.read("mark a\nrule coming mark a if not thread a"))
+        turnings = Turnings(book)
+        calls += (
+            closure.thread_views, closure.joined_views, lambda: closure.sender_views((None, None)),
+            lambda: threads_told(closure), lambda: senders_told(closure), judge(book).table, bound.first_order,
+            bound.second_order, turnings.good_sets, turnings.least_sets, turnings.spoiled, turnings.stuck,
+            lambda: least_of([(1,)]), lambda: blockers([(1,)]), lambda: plain_run((book, []))[0],
         )
         for call in calls:
             first, second = call(), call()

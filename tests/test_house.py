@@ -46,7 +46,8 @@ class IsEvent(unittest.TestCase):
             ("standing", "ann", "s"), ("standing", "ann at oak", "S"), ("standing", "ann at oak"), ("standing", 3, "s"),
             ("seen", 3, True), ("seen", 3, True, 0), ("seen", 0, True, 0, "d"), ("seen", 3, 1, 0, "d"),
             ("seen", 3, None, 0, "d"), ("seen", 3, True, -1, "d"), ("seen", 3, True, 10 ** 30 + 1, "d"),
-            ("seen", 3, True, False, "d"), ("seen", 3, True, 0, "D"), ("seen", 3, True, 0, "d", 1), (letter(1), "letter"),
+            ("seen", 3, True, False, "d"), ("seen", 3, True, 0, "D"), ("seen", 3, True, 0, "d", 1),
+            (letter(1), "letter"),
             (["letter"], letter(1)), (None, 1, 2), ("edit", Book.read("")), ((), ()), (b"letter", letter(1)),
         ):
             self.assertIs(is_event(thing), False, thing)
@@ -238,7 +239,8 @@ class Plays(unittest.TestCase):
     def test_what_is_returned(self):
         events = [
             ("letter", letter(5)), ("letter", letter(5)), ("mark", 5, "c"), ("mark", 5, "c"), ("mark", 6, "b"),
-            ("standing", "x at y", "u"), ("standing", "x at y", "u"), ("seen", 9, True, 1, "d"), ("seen", 9, False, 0, "d"),
+            ("standing", "x at y", "u"), ("standing", "x at y", "u"), ("seen", 9, True, 1, "d"),
+            ("seen", 9, False, 0, "d"),
         ]
         before = list(events)
         self.assertEqual(self.house.play(events), [True, False, True, False, True, True, False, True, False])
@@ -292,7 +294,8 @@ class Edits(unittest.TestCase):
         self.assertEqual(house.stamp_of(7), Stamp(["b"], []))
         house.edit(self.first)
         house.come(letter(8, words=["x"]))
-        self.assertEqual((house.stamp_of(8), house.marks_of(8), house.marks_of(6)), (Stamp(["a"], []), ("a", "b"), ("c", "b")))
+        self.assertEqual(house.stamp_of(8), Stamp(["a"], []))
+        self.assertEqual((house.marks_of(8), house.marks_of(6)), (("a", "b"), ("c", "b")))
 
     def test_edits_keep_all_else(self):
         before = self.house.summary(), self.house.deeds(), self.house.sight_of(6)
@@ -390,7 +393,10 @@ class Edits(unittest.TestCase):
 
 class Anew(unittest.TestCase):
     def setUp(self):
-        self.book = book_of("rule coming mark a if not thread a", "rule coming standing v if thread a", "rule always mark b if thread a")
+        self.book = book_of(
+            "rule coming mark a if not thread a", "rule coming standing v if thread a",
+            "rule always mark b if thread a",
+        )
         self.house = House(self.book)
         self.house.play([
             ("letter", letter(6)), ("letter", letter(5, 6)), ("letter", letter(9, 5, person="bob")), ("mark", 5, "c"),
@@ -413,7 +419,8 @@ class Anew(unittest.TestCase):
         self.assertEqual(state(other), state(self.house.anew(5)))
         self.assertEqual(other.stamp_of(5), Stamp(["a"], ["v"]))
         self.assertEqual(other.stamp_of(5).rules, (1, 2))
-        self.assertEqual([other.sight_of(number) for number in (6, 5, 9)], [self.house.sight_of(number) for number in (6, 5, 9)])
+        for number in (6, 5, 9):
+            self.assertEqual(other.sight_of(number), self.house.sight_of(number))
         self.assertEqual([each.number for each in other], [6, 5, 9])
         self.assertEqual(other.deeds(), self.house.deeds())
         self.assertEqual(other.stamp_of(9), self.house.stamp_of(9))
@@ -438,7 +445,9 @@ class Anew(unittest.TestCase):
     def test_changing_it_leaves_the_house(self):
         before = state(self.house)
         other = self.house.anew(6)
-        other.play([("letter", letter(40, 6)), ("mark", 6, "c"), ("standing", "bob at oak", "u"), ("seen", 6, True, 9, "d")])
+        other.play([
+            ("letter", letter(40, 6)), ("mark", 6, "c"), ("standing", "bob at oak", "u"), ("seen", 6, True, 9, "d"),
+        ])
         other.edit(book_of())
         self.assertEqual(state(self.house), before)
 

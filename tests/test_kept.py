@@ -103,7 +103,8 @@ class Comings(unittest.TestCase):
         self.assertEqual(kept.joined_view(letter(20, 7)), View(["b", "c"], [1]))
         kept.come(here)
         self.assertEqual(list(kept.each_thread()), [(5, ("c", "a", "b")), (9, ())])
-        self.assertEqual([kept.borne(number) for number in (5, 6, 7, 9, 10)], [("c", "a"), ("a",), ("a", "b"), (), ("a",)])
+        borne = [kept.borne(number) for number in (5, 6, 7, 9, 10)]
+        self.assertEqual(borne, [("c", "a"), ("a",), ("a", "b"), (), ("a",)])
         self.assertEqual(kept.thread_view(20), View(["b", "c"], [1, 2]))
         self.assertEqual(kept.marks_had(21), ("c", "a", "b"))
         self.assertEqual(kept.thread_view(22), View())
@@ -171,7 +172,8 @@ class Hands(unittest.TestCase):
 class Whys(unittest.TestCase):
     def setUp(self):
         self.kept = Kept(book_of(
-            "rule always mark a if test 1, not test 2", "rule coming mark a", "rule always mark a if thread c, not thread b",
+            "rule always mark a if test 1, not test 2", "rule coming mark a",
+            "rule always mark a if thread c, not thread b",
             "rule always mark a if not thread b", "rule always mark b if thread c, test 1",
         ))
 
@@ -255,7 +257,8 @@ class Changes(unittest.TestCase):
 
 class Edits(unittest.TestCase):
     def test_edits(self):
-        first, second = book_of("rule always mark a if test 1"), book_of("rule coming mark c", "rule always mark b if thread c")
+        first = book_of("rule always mark a if test 1")
+        second = book_of("rule coming mark c", "rule always mark b if thread c")
         kept = Kept(first)
         kept.come(letter(5, words=["x"]), ["a"])
         kept.come(letter(6, 5, words=["x"]))

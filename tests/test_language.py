@@ -72,6 +72,30 @@ INTERFACE = {
         ),
     },
     "views": {"Step": (), "step": None},
+    "closure": {
+        "NoView": (),
+        "Closure": (
+            "__init__", "thread_views", "joined_views", "sender_views", "thread_cost", "joined_cost", "sender_cost",
+            "thread_step", "sender_step", "lot", "__contains__",
+        ),
+    },
+    "orders": {
+        "Verdict": ("free",), "Free": ("table",), "Bound": ("first_order", "second_order"), "judge": None,
+        "departures": None, "thread_events": None, "sender_events": None,
+    },
+    "viewcheck": {
+        "table_fault": None, "cost_fault": None, "ground_fault": None, "threads_told": None, "senders_told": None,
+        "orders_fault": None,
+    },
+    "leastsets": {"subsets": None, "least_of": None, "blockers": None, "is_upward": None},
+    "turnings": {
+        "turnable": None, "turn": None, "Turned": ("is_good",),
+        "Turnings": (
+            "__init__", "turned", "good_sets", "least_sets", "needed", "spoiled", "mended", "stuck", "__len__",
+            "__iter__",
+        ),
+    },
+    "plainrun": {"plain_run": None},
 }
 
 MODIFIERS = {"append", "extend", "insert", "remove", "pop", "clear", "reverse", "update", "setdefault"}

@@ -47,7 +47,8 @@ class Words(unittest.TestCase):
         self.assertEqual(words.numbers(), [1, 9])
 
     def test_unions(self):
-        first, second = LastWords((1, True, 2, "b"), (2, True, 2, "b")), LastWords((1, False, 3, "a"), (4, True, 0, "a"))
+        first = LastWords((1, True, 2, "b"), (2, True, 2, "b"))
+        second = LastWords((1, False, 3, "a"), (4, True, 0, "a"))
         both = first | second
         self.assertIsInstance(both, LastWords)
         self.assertEqual([both.last(number) for number in (1, 2, 4)], [(3, "a", False), (2, "b", True), (0, "a", True)])

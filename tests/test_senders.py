@@ -15,7 +15,8 @@ class IsSender(unittest.TestCase):
     def test_other_strings(self):
         for text in (
             "", "ann", "ann at", "ann at ", " at oak", "ann  at oak", "ann at  oak", "ann at oak ", " ann at oak",
-            "ann at oak\n", "ann in oak", "Ann at oak", "ann at Oak", "abcdefghi at oak", "ann at abcdefghi", "ann AT oak",
+            "ann at oak\n", "ann in oak", "Ann at oak", "ann at Oak", "abcdefghi at oak", "ann at abcdefghi",
+            "ann AT oak",
             "ann at oak at elm", "ann1 at oak", "ann\tat\toak", "a-b at oak", "at", "at at", "ann at oak at",
         ):
             self.assertIs(is_sender(text), False, text)
@@ -51,7 +52,8 @@ class Standings(unittest.TestCase):
             self.assertEqual(self.senders.by_hand("a at b"), ("u",))
         self.assertEqual(first, [False, False])
         other = Senders(("v", "u"))
-        self.assertEqual([other.give("a at b", "u", by_hand=True), other.give("a at b", "u", by_hand=False)], [True, True])
+        self.assertIs(other.give("a at b", "u", by_hand=True), True)
+        self.assertIs(other.give("a at b", "u", by_hand=False), True)
         self.assertEqual([other.give("a at b", "u", by_hand=True), other.give("a at b", "u")], [False, False])
 
     def test_what_stamps_give_is_not_by_hand(self):
@@ -92,7 +94,8 @@ class Standings(unittest.TestCase):
                 senders = Senders(["v", "u"])
                 for sender, standing, by_hand in part:
                     self.assertIs(senders.give(sender, standing, by_hand=by_hand), True)
-                rows.append((senders.names(), [(senders.standings_of(each), senders.by_hand(each)) for each in senders.names()]))
+                names = senders.names()
+                rows.append((names, [(senders.standings_of(each), senders.by_hand(each)) for each in names]))
             self.assertEqual(rows[0], rows[1])
             self.assertEqual(rows[0], rows[2])
             self.assertEqual(rows[0][0], sorted({sender for sender, _, _ in part}))

@@ -79,12 +79,17 @@ class Stamping(unittest.TestCase):
         self.check((("a", "b"), ("v", "u"), (1, 2, 4, 5)), book, (False, False), ["b"])
 
     def test_a_gift_bars_the_rules_behind_it(self):
-        book = book_of("rule coming mark a if not thread a", "rule coming mark a if not thread a", "rule coming mark b if not sender v")
+        book = book_of(
+            "rule coming mark a if not thread a", "rule coming mark a if not thread a",
+            "rule coming mark b if not sender v",
+        )
         self.check((("a", "b"), (), (1, 3)), book, (False, False))
         self.check((("b",), (), (3,)), book, (False, False), ["a"])
 
     def test_a_gift_that_was_seen_or_got_is_in_the_stamp(self):
-        book = book_of("rule coming mark a", "rule coming mark a if thread a", "rule coming standing u", "rule coming standing u")
+        book = book_of(
+            "rule coming mark a", "rule coming mark a if thread a", "rule coming standing u", "rule coming standing u",
+        )
         self.check((("a",), ("u",), (1, 2, 3, 4)), book, (False, False), ["a", "b"], ["u", "v"])
 
     def test_what_is_seen_alone_is_not(self):
@@ -100,7 +105,9 @@ class Stamping(unittest.TestCase):
         self.check((("b",), (), (2,)), book, (False, False))
 
     def test_empty_stamps(self):
-        book = book_of("rule coming mark a if test 1", "rule coming mark b if thread a", "rule coming standing u if sender u")
+        book = book_of(
+            "rule coming mark a if test 1", "rule coming mark b if thread a", "rule coming standing u if sender u",
+        )
         found = empty_stamp(book, (True, False))
         self.assertEqual((found.marks, found.standings, found.rules), (("a", "b"), (), (1, 2)))
         self.assertEqual(empty_stamp(book, (False, False)).written(), "nothing")
@@ -153,7 +160,8 @@ class Walks(unittest.TestCase):
             "rule coming standing v if not sender u", "rule coming mark c if not sender u, thread b",
         )
         self.check(
-            [(1, None), (2, ("thread", "a")), (3, None), (4, ("sender", "u")), (5, ("thread", "b"))], book, (False, False),
+            [(1, None), (2, ("thread", "a")), (3, None), (4, ("sender", "u")), (5, ("thread", "b"))],
+            book, (False, False),
         )
 
 

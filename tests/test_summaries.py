@@ -55,7 +55,8 @@ class Summaries(unittest.TestCase):
 
     def test_waiting(self):
         house = played(TEXT, [
-            ("mark", 20, "c"), ("mark", 8, "c"), ("mark", 8, "b"), ("seen", 8, False, 0, "d"), ("seen", 30, True, 5, "d"),
+            ("mark", 20, "c"), ("mark", 8, "c"), ("mark", 8, "b"), ("seen", 8, False, 0, "d"),
+            ("seen", 30, True, 5, "d"),
             ("letter", letter(20, 30)), ("seen", 5, True, 1, "d"), ("letter", letter(4, 5)), ("mark", 6, "b"),
         ])
         self.assertEqual(house.summary()[2], (
@@ -77,7 +78,8 @@ class Deeds(unittest.TestCase):
         house = played(TEXT, [
             ("seen", 9, True, 1, "d"), ("standing", "x at y", "u"), ("mark", 30, "b"), ("letter", letter(9)),
             ("mark", 9, "b"), ("mark", 30, "c"), ("seen", 4, False, 0, "d"), ("letter", letter(5, words=["x"])),
-            ("standing", "a at b", "u"), ("seen", 9, False, 1, "d"), ("mark", 9, "c"), ("letter", letter(5, words=["x"])),
+            ("standing", "a at b", "u"), ("seen", 9, False, 1, "d"), ("mark", 9, "c"),
+            ("letter", letter(5, words=["x"])),
         ])
         self.assertEqual(house.deeds(), [
             ("letter", letter(5, words=["x"])), ("letter", letter(9)), ("mark", 9, "c"), ("mark", 9, "b"),

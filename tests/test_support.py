@@ -77,7 +77,8 @@ class Reasons(unittest.TestCase):
         )
         self.assertEqual(Reason("hot", 1, 0).written(), "hot       1  0 put")
         self.assertEqual(Reason("eightabc", 12, 34, 5).written(), "eightabc 12 34 rule 5")
-        self.assertEqual(Reason("a", 0, 0, has=["b", "c"], lacks=["d"]).written(), "a         0  0 put has b has c lacks d")
+        reason = Reason("a", 0, 0, has=["b", "c"], lacks=["d"])
+        self.assertEqual(reason.written(), "a         0  0 put has b has c lacks d")
         self.assertEqual(Reason("a", 100, 7, 123).written(), "a        100  7 rule 123")
 
     def test_equality_compares_all_six(self):
@@ -105,7 +106,9 @@ class Derivations(unittest.TestCase):
         self.check(Book.read(""), View(["a"], [1]), [])
 
     def test_put_marks_and_given_ones(self):
-        book = book_of("rule always mark a if thread c", "rule always mark b if thread a, thread c", "rule always mark a")
+        book = book_of(
+            "rule always mark a if thread c", "rule always mark b if thread a, thread c", "rule always mark a",
+        )
         self.check(book, View(["c"], [1, 2]), [
             ("c", 0, 0, None, (), ()), ("a", 0, 1, 1, ("c",), ()), ("b", 0, 2, 2, ("c", "a"), ()),
         ])

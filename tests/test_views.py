@@ -28,12 +28,17 @@ class Steps(unittest.TestCase):
         self.assertEqual(((found.stamp.marks, found.stamp.standings), found.view.key(), found.standings), told)
 
     def test_nothing_is_joined(self):
-        book = book_of("rule coming mark b if test 1", "rule always mark a if test 1", "rule always mark c if not test 1")
+        book = book_of(
+            "rule coming mark b if test 1", "rule always mark a if test 1", "rule always mark c if not test 1",
+        )
         self.check(((("b",), ()), (("b",), (2,)), ()), book, View(), (), (True, False))
         self.check((((), ()), ((), (3,)), ()), book, View(), (), (False, False))
 
     def test_a_mark_that_an_always_rule_gives_is_seen_but_not_put(self):
-        book = book_of("rule always mark a if thread c", "rule coming mark b if thread a", "rule coming standing v if not thread c")
+        book = book_of(
+            "rule always mark a if thread c", "rule coming mark b if thread a",
+            "rule coming standing v if not thread c",
+        )
         self.check(((("b",), ()), (("b", "c"), (1,)), ()), book, View(["c"], [1]), (), (False, False))
         self.check((((), ("v",)), ((), (1,)), ("v",)), book, View(), (), (False, False))
 
