@@ -3,6 +3,9 @@
 from filedalike.names import those_in
 from filedalike.rules import Mode
 
+# The key of the view of no letters.
+NOTHING = ((), ())
+
 
 class View:
     """What always-rules need to know of a thread; it never changes."""

@@ -1,9 +1,9 @@
 """The views that any row of events can reach under one book."""
 
-from filedalike.always import View
+from filedalike.always import NOTHING, View
 from filedalike.errors import MailError
 from filedalike.kinds import sender_kinds
-from filedalike.reach import JOINED, NOTHING, SENDER, THREAD, Reach
+from filedalike.reach import JOINED, SENDER, THREAD, Reach
 from filedalike.strata import check_ring
 
 

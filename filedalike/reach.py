@@ -2,7 +2,7 @@
 
 from heapq import heappop, heappush
 
-from filedalike.always import View, thread_marks, union_of
+from filedalike.always import NOTHING, View, thread_marks, union_of
 from filedalike.kinds import kinds_of_sender, sender_kinds
 from filedalike.names import those_in
 from filedalike.views import step_seeing
@@ -10,7 +10,6 @@ from filedalike.views import step_seeing
 THREAD = "thread"
 JOINED = "joined"
 SENDER = "sender"
-NOTHING = ((), ())
 
 
 class Reach:

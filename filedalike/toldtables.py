@@ -1,10 +1,8 @@
 """Told tables of reached views, and what follows from their rows."""
 
-from filedalike.always import View, union_of
+from filedalike.always import NOTHING, View, union_of
 from filedalike.kinds import kinds_of_sender, sender_kinds
 from filedalike.views import step
-
-NOTHING = ((), ())
 
 
 class ToldTable:

@@ -95,6 +95,19 @@ class Lists(unittest.TestCase):
         self.assertEqual(sorted(keys(closure.lot(View(["a", "b"])))), [(("a",), ()), (("b",), ())])
         self.assertEqual(sum(closure.thread_cost(view) for view in closure.lot(View(["a", "b"]))), 4)
 
+    def test_threads_that_no_letter_unites_cheaply(self):
+        # Each mark is given only where the thread lacks the others, so three threads are cheaper than a larger one.
+        closure = Closure(Book.read("\n".join([
+            "mark a", "mark b", "mark c", "test word x", "test word y",
+            "rule coming mark c if test 2, not thread a, not thread b",
+            "rule coming mark a if test 1, not thread b, not thread c",
+            "rule coming mark b if not test 1, not thread a, not thread c",
+        ])))
+        all_three = View(["a", "b", "c"])
+        self.assertEqual(closure.joined_cost(all_three), 3)
+        self.assertEqual(sorted(keys(closure.lot(all_three))), [(("a",), ()), (("b",), ()), (("c",), ())])
+        self.assertEqual(closure.thread_cost(all_three), 4)
+
     def test_no_hands_at_all(self):
         closure = Closure(Book.read("mark a\nstanding v\nrule coming mark a if sender v"))
         self.assertEqual((keys(closure.thread_views()), closure.sender_views(())), ([NOTHING], [()]))
@@ -167,6 +180,8 @@ class NoViews(unittest.TestCase):
                     ask(view)
                 self.assertIs(caught.exception.view, view)
             self.assertIs(view in closure, False)
+        for thing in (None, NOTHING, 1):
+            self.assertIs(thing in closure, False)
 
     def test_sender_views(self):
         closure = self.closure

@@ -30,6 +30,13 @@ def state(house):
     )
 
 
+class Anything:
+    """Equal to all that it is compared with."""
+
+    def __eq__(self, other):
+        return True
+
+
 class IsEvent(unittest.TestCase):
     def test_events(self):
         for thing in (
@@ -49,6 +56,8 @@ class IsEvent(unittest.TestCase):
             ("seen", 3, True, False, "d"), ("seen", 3, True, 0, "D"), ("seen", 3, True, 0, "d", 1),
             (letter(1), "letter"),
             (["letter"], letter(1)), (None, 1, 2), ("edit", Book.read("")), ((), ()), (b"letter", letter(1)),
+            ("other", "ann at oak", "s"), ("other", 3, "c"), ("other", 3, True, 0, "d"), ("other", letter(1)),
+            (Anything(), letter(1)), (Anything(), 3, "c"),
         ):
             self.assertIs(is_event(thing), False, thing)
 

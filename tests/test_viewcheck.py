@@ -269,6 +269,9 @@ class Grounds(unittest.TestCase):
         self.check_thread(key, ("hand", "c", (("a",), ())), fault=False)
         self.check_thread(key, ("hand", "c", (("c",), ())))
         self.check_thread(key, ("hand", "a", (("c",), ())))
+        before = [row for row in self.threads if row[:2] in (NOTHING, (("c",), ()))]
+        rows = before + [key + (9, ("hand", "a", (("c",), ())))]
+        self.assertEqual(ground_fault(self.book, rows, self.senders), ("thread", 2))
         self.check_thread(key, ("hand", "z", (("a",), ())))
         self.check_thread(key, ("hand", "c", NOTHING))
         self.check_thread(key, ("hand", "c", key))
@@ -432,6 +435,8 @@ class Orders(unittest.TestCase):
         self.check("events", [("mark", 1, "z"), self.last()])
         self.check("events", [("standing", "a at a", "u"), self.last()])
         self.check("events", [("standing", "a at a", "a"), self.last()])
+        self.check("events", [None, self.last()])
+        self.check("events", [("mark", 0, "a"), self.last()])
 
     def test_order(self):
         good = [self.other(1), ("mark", 1, "a"), self.last(1)]
