@@ -131,6 +131,13 @@ class Book:
         return self.rules[number - 1]
 
 
+def check_pair(first, second):
+    """Raise OtherGround if two books are not over the same ground, or else RingThroughLacks for the first ring."""
+    first.check_ground(second)
+    check_ring(first)
+    check_ring(second)
+
+
 def name_row(lead, name, hand_names):
     """The mark row or standing row of a name."""
     return f"{lead} {name} by hand" if name in hand_names else f"{lead} {name}"

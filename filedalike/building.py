@@ -4,15 +4,32 @@ from filedalike.kinds import house_of, letter_of
 from filedalike.names import ALPHABET
 
 
+class Fresh:
+    """Letter numbers and persons that were not used before."""
+
+    def __init__(self, number):
+        self._next_number = number
+        self._many_persons = 0
+
+    def take_number(self):
+        """The next letter number."""
+        self._next_number += 1
+        return self._next_number - 1
+
+    def take_person(self):
+        """The name of the next person."""
+        self._many_persons += 1
+        return person_name(self._many_persons)
+
+
 class Building:
     """Building events in a row; each use of a step is a copy of its own."""
 
-    def __init__(self, closure, number):
+    def __init__(self, closure, fresh):
         self.events = []
         self._closure = closure
         self._tests = closure.book.tests
-        self._next_number = number
-        self._many_persons = 0
+        self._fresh = fresh
 
     def build_thread(self, view):
         """Build a thread view; the number of the last built letter of the thread. Raises NoView."""
@@ -30,8 +47,7 @@ class Building:
         """Build the standings of a new sender; the pair of its person and house. Raises NoView."""
         last_step = self._closure.sender_step(sender_kind, standings)
         if last_step[0] == "start":
-            self._many_persons += 1
-            return person_name(self._many_persons), house_of(self._tests, sender_kind)
+            return self._fresh.take_person(), house_of(self._tests, sender_kind)
         if last_step[0] == "hand":
             _, standing, before = last_step
             person, house = self.build_sender(sender_kind, before)
@@ -44,11 +60,14 @@ class Building:
 
     def build_letter(self, kind, joined, person, house):
         """Build the threads that a letter joins, and then the letter; its number. Raises NoView."""
-        answers = []
-        for view in self._closure.lot(joined):
+        return self.build_answer(kind, [], self._closure.lot(joined), person, house)
+
+    def build_answer(self, kind, numbers, lot, person, house):
+        """Build a lot of threads, and then a letter that answers these numbers and the threads; its number."""
+        answers = list(numbers)
+        for view in lot:
             answers.append(self.build_thread(view))
-        number = self._next_number
-        self._next_number += 1
+        number = self._fresh.take_number()
         letter = letter_of(self._tests, kind, number=number, person=person, house=house, answers=answers)
         self.events.append(("letter", letter))
         return number

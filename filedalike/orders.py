@@ -1,7 +1,7 @@
 """The verdict on a book: whether the order of events can ever matter."""
 
 from filedalike.always import thread_marks
-from filedalike.building import Building
+from filedalike.building import Building, Fresh
 from filedalike.closure import Closure
 from filedalike.kinds import kinds, sender_part
 from filedalike.stamps import empty_stamp, stamp
@@ -39,7 +39,7 @@ class Bound(Verdict):
         self.cost, self.kind, self.view, self.standings = departure
         self.here = stamp(self.book, self.kind, thread_marks(self.book, self.view), self.standings)
         self.alone = empty_stamp(self.book, self.kind)
-        building = Building(closure, 1)
+        building = Building(closure, Fresh(1))
         person, house = building.build_sender(sender_part(self.book.tests, self.kind), self.standings)
         self.number = building.build_letter(self.kind, self.view, person, house)
         self._events = tuple(building.events)
@@ -99,13 +99,13 @@ def departure_place(departure):
 
 def thread_events(closure, view, *, number=1):
     """The building events of a thread view and the number of its last built letter. Raises NoView."""
-    building = Building(closure, number)
+    building = Building(closure, Fresh(number))
     last = building.build_thread(view)
     return building.events, last
 
 
 def sender_events(closure, sender_kind, standings, *, number=1):
     """The building events of standings and the sender. Raises NoView."""
-    building = Building(closure, number)
+    building = Building(closure, Fresh(number))
     person, house = building.build_sender(sender_kind, standings)
     return building.events, f"{person} at {house}"

@@ -4,10 +4,15 @@ import unittest
 
 from filedalike.always import View, borne, fitting, thread_marks, view_of
 from filedalike.book import Book, OtherGround
+from filedalike.bookedits import changed_kinds
 from filedalike.closure import Closure, NoView
+from filedalike.deeds import BadDeed
+from filedalike.devices import Device, Forged, WrongDeed
 from filedalike.errors import Clash, MailError
 from filedalike.fitting import alike_kinds, coverings, unfit_rules
+from filedalike.folding import NotFree
 from filedalike.forest import Forest
+from filedalike.had import BadHad, Had
 from filedalike.headrows import BadRow, read_letters, written_letters
 from filedalike.house import BadEvent, House, NotByHand
 from filedalike.joins import chain, each_join, join_of, together_since
@@ -24,12 +29,14 @@ from filedalike.strata import RingThroughLacks
 from filedalike.support import HasMark, NoMark, Reason, bars, derivation, first_fault
 from filedalike.threads import Threads
 from filedalike.turnings import Turnings
+from filedalike.twobooks import alike_books, idle_rules, trims
 from filedalike.viewcheck import senders_told, threads_told
 
 ERRORS = (
     (Clash, "number"), (BadLetter, "field"), (BadRow, "row"), (BadTest, "told"), (NoKind, "kind"), (BadBook, "row"),
     (NoRule, "number"), (NotTurnable, "number"), (RingThroughLacks, "ring"), (OtherGround, "part"), (NoMark, "name"),
     (HasMark, "name"), (NoLetter, "number"), (NotByHand, "name"), (BadEvent, "index"), (NoView, "view"),
+    (BadDeed, "field"), (BadHad, "text"), (NotFree, "kind"), (WrongDeed, "index"),
 )
 LETTERS = (Letter(5, "a", "b", answers=(9, 2)), Letter(7, "a", "b"), Letter(9, "a", "b", answers=(7,)))
 TEXT = "\n".join([
@@ -52,6 +59,12 @@ class Errors(unittest.TestCase):
         for made, name in ERRORS:
             for value in (3, "word", ("a", None), 10 ** 5000):
                 self.assertIs(getattr(made(value), name), value)
+
+    def test_an_error_with_two_attributes(self):
+        self.assertEqual(Forged.__bases__, (MailError,))
+        error = Forged("ann", 10 ** 30)
+        self.assertEqual((error.device, error.number), ("ann", 10 ** 30))
+        self.assertIsInstance(str(error), str)
 
     def test_errors_can_be_shown(self):
         for made, _ in ERRORS:
@@ -106,6 +119,12 @@ class Copies(unittest.TestCase):
             lambda: threads_told(closure), lambda: senders_told(closure), judge(book).table, bound.first_order,
             bound.second_order, turnings.good_sets, turnings.least_sets, turnings.spoiled, turnings.stuck,
             lambda: least_of([(1,)]), lambda: blockers([(1,)]), lambda: plain_run((book, []))[0],
+        )
+        device = Device("d", Book.read("mark a by hand"))
+        device.put(5, "a")
+        calls += (
+            lambda: changed_kinds(book, book), lambda: alike_books(book, book), lambda: alike_books(book, book)[0],
+            lambda: idle_rules(book), lambda: trims(book), device.deeds, lambda: device.parcel(Had()),
         )
         for call in calls:
             first, second = call(), call()

@@ -96,6 +96,30 @@ INTERFACE = {
         ),
     },
     "plainrun": {"plain_run": None},
+    "jointviews": {
+        "JointViews": ("__init__", "thread_views", "joined_views", "sender_views", "followed", "after_edit"),
+    },
+    "twobooks": {
+        "Alike": ("alike",), "Unlike": ("alike",), "compare": None, "alike_books": None, "idle_rules": None,
+        "trims": None,
+    },
+    "bookedits": {"Seamless": ("seamless",), "Seam": ("seamless",), "edit_seam": None, "changed_kinds": None},
+    "deeds": {"BadDeed": (), "Deed": ("__init__", "__eq__"), "forged": None},
+    "had": {
+        "BadHad": (),
+        "Had": (
+            "__init__", "__contains__", "__or__", "__and__", "__sub__", "__eq__", "__iter__", "of", "read", "written",
+            "many", "following", "gaps",
+        ),
+    },
+    "folding": {"NotFree": (), "checked": None, "Fold": ("__init__", "put", "trial")},
+    "devices": {
+        "Forged": (), "WrongDeed": (), "meaning": None,
+        "Device": (
+            "__init__", "come", "put", "give", "see", "edit", "receive", "deeds", "held", "parcel", "summary",
+            "new_house",
+        ),
+    },
 }
 
 MODIFIERS = {"append", "extend", "insert", "remove", "pop", "clear", "reverse", "update", "setdefault"}
