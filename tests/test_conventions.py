@@ -7,6 +7,7 @@ from filedalike.book import Book, OtherGround
 from filedalike.bookedits import changed_kinds
 from filedalike.closure import Closure, NoView
 from filedalike.deeds import BadDeed
+from filedalike.desk import NoWatch
 from filedalike.devices import Device, Forged, WrongDeed
 from filedalike.errors import Clash, MailError
 from filedalike.fitting import alike_kinds, coverings, unfit_rules
@@ -20,8 +21,10 @@ from filedalike.kept import Kept, NoLetter
 from filedalike.kinds import BadTest, NoKind, barred, kind_of, kinds, letter_of, read_test, sender_kinds
 from filedalike.leastsets import blockers, least_of
 from filedalike.letters import BadLetter, Letter
+from filedalike.meetings import Strangers
 from filedalike.orders import judge
 from filedalike.plainrun import plain_run
+from filedalike.queryread import BadQuery
 from filedalike.rules import BadBook, NoRule, NotTurnable
 from filedalike.senders import Senders
 from filedalike.stamps import walk
@@ -36,7 +39,8 @@ ERRORS = (
     (Clash, "number"), (BadLetter, "field"), (BadRow, "row"), (BadTest, "told"), (NoKind, "kind"), (BadBook, "row"),
     (NoRule, "number"), (NotTurnable, "number"), (RingThroughLacks, "ring"), (OtherGround, "part"), (NoMark, "name"),
     (HasMark, "name"), (NoLetter, "number"), (NotByHand, "name"), (BadEvent, "index"), (NoView, "view"),
-    (BadDeed, "field"), (BadHad, "text"), (NotFree, "kind"), (WrongDeed, "index"),
+    (BadDeed, "field"), (BadHad, "text"), (NotFree, "kind"), (WrongDeed, "index"), (Strangers, "pair"),
+    (BadQuery, "place"), (NoWatch, "name"),
 )
 LETTERS = (Letter(5, "a", "b", answers=(9, 2)), Letter(7, "a", "b"), Letter(9, "a", "b", answers=(7,)))
 TEXT = "\n".join([

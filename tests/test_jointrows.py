@@ -140,7 +140,8 @@ class Doubts(unittest.TestCase):
         other = book_of("rule coming mark a if thread b, test 1")
         doubt = Doubt(one, other, number=9)
         rows = [
-            (0, self.letter(9, words=["x"])), (0, self.letter(8)), (0, ("mark", 8, "b")), (0, ("seen", 9, True, 1, "d")),
+            (0, self.letter(9, words=["x"])), (0, self.letter(8)), (0, ("mark", 8, "b")),
+            (0, ("seen", 9, True, 1, "d")),
         ]
         self.assertEqual(doubt.needed(rows), rows[:1])
         self.assertEqual(doubt.needed(rows[1:3] + [(0, self.letter(9, 8, words=["x"]))])[-1][1][1].number, 9)

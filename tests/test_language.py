@@ -120,6 +120,23 @@ INTERFACE = {
             "new_house",
         ),
     },
+    "meetings": {"Strangers": (), "meet": None, "routes": None},
+    "query": {
+        "NestedThread": (), "Query": ("written", "__invert__", "__and__", "__or__", "__eq__"), "Every": (), "Says": (),
+        "Heads": (), "From": (), "At": (), "Bears": (), "Stands": (), "Seen": (), "Among": (), "Not": (), "Both": (),
+        "Either": (),
+    },
+    "queryread": {"BadQuery": (), "read_query": None},
+    "papers": {"holds": None, "paper": None, "search": None},
+    "index": {"Index": ("lay", "numbers_of", "how_many", "all_keys", "__contains__", "__len__", "__eq__")},
+    "desk": {
+        "NoWatch": (),
+        "Desk": (
+            "__init__", "come", "put", "give", "see", "play", "edit", "find", "first_found", "each_found", "watch",
+            "news", "unwatch", "watches",
+        ),
+    },
+    "counts": {"Counts": ("__init__", "by_mark", "by_sender", "by_thread", "facets", "spread", "total")},
 }
 
 MODIFIERS = {"append", "extend", "insert", "remove", "pop", "clear", "reverse", "update", "setdefault"}
