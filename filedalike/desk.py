@@ -50,23 +50,25 @@ class Desk:
 
     def come(self, letter):
         """A letter comes; whether it is new. Raises Clash."""
+        before = self.house.standings_of(letter.sender)
         is_new = self.house.come(letter)
         if is_new:
-            self._renew(list(self.house.members_of(letter.number)) + self._numbers_from(letter.sender))
+            self._renew([letter.number] + self.house.changed_numbers())
+            self._renew_sender(letter.sender, before)
         return is_new
 
     def put(self, number, mark):
         """A hand puts a mark on a number; whether it is new there. Raises NotByHand."""
         is_new = self.house.put(number, mark)
-        if is_new and number in self.house:
-            self._renew(self.house.members_of(number))
+        if is_new:
+            self._renew(self.house.changed_numbers())
         return is_new
 
     def give(self, sender, standing):
         """A hand gives a standing to a sender; whether no hand gave it before. Raises NotByHand."""
+        before = self.house.standings_of(sender)
         is_new = self.house.give(sender, standing)
-        if is_new:
-            self._renew(self._numbers_from(sender))
+        self._renew_sender(sender, before)
         return is_new
 
     def see(self, number, seen, *, count, device):
@@ -138,8 +140,9 @@ class Desk:
         _, number, seen, count, device = event
         return self.see(number, seen, count=count, device=device)
 
-    def _numbers_from(self, sender):
-        return self._index.numbers_of(("from", sender))
+    def _renew_sender(self, sender, before):
+        if self.house.standings_of(sender) != before:
+            self._renew(self._index.numbers_of(("from", sender)))
 
     def _renew(self, numbers):
         for number in sorted(set(numbers)):

@@ -2,16 +2,14 @@
 
 
 class Finder:
-    """Finds letters; the classes below it tell what holds for which of them."""
+    """Finds letters; the classes below it tell how the letters of a query without parts are found."""
 
     def __init__(self, house):
         self.house = house
-        self.all_numbers = sorted([letter.number for letter in house])
 
     def found(self, query):
         """The numbers of the letters for which a query holds, ascending, a list."""
-        held = self._holding(query)
-        return [number for number in self.all_numbers if number in held]
+        return sorted(self._holding(query))
 
     def leaf_numbers(self, query):
         """The numbers of the letters for which a query without parts holds, a list in any order."""
@@ -26,10 +24,9 @@ class Finder:
             return {number: True for part in query.queries for number in self._holding(part)}
         if lead == "not":
             held = self._holding(query.query)
-            return {number: True for number in self.all_numbers if number not in held}
+            return {letter.number: True for letter in self.house if letter.number not in held}
         if lead == "thread":
-            names = {self.house.thread_of(number): True for number in self._holding(query.query)}
-            return {number: True for number in self.all_numbers if self.house.thread_of(number) in names}
+            return self._around(self._holding(query.query))
         return {number: True for number in self.leaf_numbers(query)}
 
     def _holding_all(self, queries):
@@ -38,3 +35,8 @@ class Finder:
             more = self._holding(query)
             held = {number: True for number in held if number in more}
         return held
+
+    def _around(self, numbers):
+        # One letter of each thread is enough to find the others.
+        letters = {self.house.thread_of(number): number for number in numbers}
+        return {member: True for name in letters for member in self.house.members_of(letters[name])}

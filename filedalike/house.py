@@ -160,6 +160,10 @@ class House:
         self._check_come(number)
         return self._kept.threads.members(number)
 
+    def changed_numbers(self):
+        """The letters whose marks the latest coming, mark of a hand or edit changed, ascending."""
+        return sorted({number for number, _, _ in self._kept.changes})
+
     def standings_of(self, sender):
         """All standings of a sender."""
         return self._senders.standings_of(sender)

@@ -8,7 +8,7 @@ class HouseFinder(Finder):
 
     def leaf_numbers(self, query):
         """The numbers of the letters for which a query without parts holds, a list."""
-        return [number for number in self.all_numbers if leaf_holds(self.house, query, number)]
+        return [letter.number for letter in self.house if leaf_holds(self.house, query, letter.number)]
 
 
 def search(house, query):

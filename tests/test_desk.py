@@ -214,17 +214,30 @@ class Renewing(unittest.TestCase):
         with mock.patch.object(desk_module, "keys_of", logged):
             check(lambda: desk.come(mail(5, person="bob")), 5)
             check(lambda: desk.come(mail(6)), 6)
-            check(lambda: desk.come(mail(7, 5)), 5, 6, 7)
+            check(lambda: desk.come(mail(7, 5)), 7)
             check(lambda: desk.come(mail(7, 5)))
             check(lambda: desk.come(mail(8, person="cob")), 8)
             check(lambda: desk.put(7, "hot"), 5, 7)
             check(lambda: desk.put(7, "hot"))
             check(lambda: desk.put(9, "hot"))
             check(lambda: desk.give("ann at oak", "big"), 6, 7)
+            check(lambda: desk.give("ann at oak", "big"))
             check(lambda: desk.give("eve at elm", "big"))
             check(lambda: desk.see(8, True, count=1, device="d"), 8)
+            check(lambda: desk.see(8, True, count=1, device="d"))
             check(lambda: desk.see(9, True, count=1, device="d"))
-            check(lambda: desk.edit(book_of()), 5, 6, 7, 8)
+            check(lambda: desk.come(mail(9, 8, person="eve")), 8, 9)
+            check(lambda: desk.come(mail(4, words=["x"])), 4, 4, 6, 7)
+            check(lambda: desk.edit(book_of()), 4, 5, 6, 7, 8, 9)
+
+    def test_long_threads(self):
+        desk = new_desk()
+        for number in range(1, 1201):
+            desk.come(mail(number + 1, number, person="ann" if number < 600 else "bob"))
+        desk.put(5, "hot")
+        self.assertEqual(desk.find(Bears("new")), list(range(2, 1202)))
+        self.assertEqual(len(desk.find(Among(From("bob at oak")))), 1200)
+        self.assertEqual(len(search(desk.house, Among(Bears("hot")))), 1200)
 
 
 class Watches(unittest.TestCase):
