@@ -138,7 +138,7 @@ class Device:
         if pair is not None:
             raise Forged(pair[0], pair[1])
         new = {pair_of(deed): deed for deed in deeds if pair_of(deed) not in self._held}
-        self._add([new[pair] for pair in new])
+        self._add([new[each] for each in new])
         return len(new)
 
     def deeds(self):

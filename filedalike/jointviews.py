@@ -38,4 +38,5 @@ class JointViews:
 
 def view_pair(view):
     """The pair of Views that a pair of keys tells."""
-    return View(*view[0]), View(*view[1])
+    here, there = view
+    return View(*here), View(*there)

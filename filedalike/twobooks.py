@@ -70,7 +70,7 @@ def alike_books(*books):
         if not found:
             leaders.append(at)
         led_by.append(found[0] if found else at)
-    return [[at for at, other in enumerate(led_by) if other == leader] for leader in leaders]
+    return [[place for place, other in enumerate(led_by) if other == leader] for leader in leaders]
 
 
 def idle_rules(book):

@@ -1,4 +1,4 @@
-"""Rules of the language that a test can see (L1, L10, L14, L23), and where the names of the interface are defined."""
+"""Rules of the language that a test can see (L1, L7, L10, L14, L23), and where the names of the interface are defined."""
 
 import ast
 import pathlib
@@ -254,6 +254,23 @@ class Loops(unittest.TestCase):
         self.assertEqual(self.wrong_rows("def f(xs):\n for x in xs:\n  ys = []\n  ys.append(x)\n  xs = ys"), [4])
         self.assertEqual(self.wrong_rows("def f(d):\n for x in d.items():\n  d[x] = 1"), [3])
         self.assertEqual(self.wrong_rows("def f(xs):\n for x in list(xs):\n  xs.append(x)"), [])
+
+
+class Stars(unittest.TestCase):
+    def test_stars_stand_before_plain_values(self):
+        for path in package_files():
+            if path.is_file():
+                for part in ast.walk(ast.parse(path.read_text())):
+                    if isinstance(part, ast.Call) and any(isinstance(each, ast.Starred) for each in part.args):
+                        values = [each.value if isinstance(each, ast.Starred) else each for each in part.args]
+                        self.assertTrue(all(self.is_plain(value) for value in values), (path, part.lineno))
+
+    def is_plain(self, value):
+        if isinstance(value, ast.Attribute):
+            return isinstance(value.value, ast.Name)
+        if isinstance(value, (ast.List, ast.Tuple)):
+            return all(self.is_plain(each) for each in value.elts)
+        return isinstance(value, (ast.Name, ast.Constant))
 
 
 class Interface(unittest.TestCase):
