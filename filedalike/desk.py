@@ -4,6 +4,7 @@ from filedalike.errors import MailError
 from filedalike.finding import Finder
 from filedalike.house import BadEvent, House, is_event
 from filedalike.index import Index
+from filedalike.papers import search
 
 
 class NoWatch(MailError):
@@ -45,6 +46,8 @@ class Desk:
     def __init__(self, book):
         self.house = House(book)
         self._index = Index()
+        # The book for which the index is laid.
+        self._book = book
         # For each watch the query and what it found when it was asked last.
         self._watched = {}
 
@@ -90,10 +93,14 @@ class Desk:
     def edit(self, book):
         """Another book holds from now on. Raises OtherGround, then RingThroughLacks."""
         self.house.edit(book)
+        self._book = book
         self._renew([letter.number for letter in self.house])
 
     def find(self, query):
         """The numbers of the letters for which a query holds, ascending, a list."""
+        # While the house is on trial, its letters bear other marks than the index has.
+        if self.house.book != self._book:
+            return search(self.house, query)
         return DeskFinder(self.house, self._index).found(query)
 
     def first_found(self, query, count=10):

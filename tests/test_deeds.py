@@ -5,6 +5,14 @@ import unittest
 from filedalike.deeds import BadDeed, Deed, forged
 from filedalike.letters import Letter
 
+
+class Anything:
+    """Equal to all that it is compared with."""
+
+    def __eq__(self, other):
+        return True
+
+
 MOST = 10 ** 30
 MAIL = Letter(5, "ann", "oak")
 ACTIONS = (
@@ -20,6 +28,7 @@ WRONG_ACTIONS = (
     ("seen", False, True), ("seen", 0, True), ("seen", 5), ("seen", 5, True, 1, "d"), ("rule", 0, None),
     ("rule", 6, None), ("rule", True, None), ("rule", "1", None), ("rule", 1, 5), ("rule", 1, b"text"), ("rule", 1),
     ("rule", 1, False), ("rule", 1, "text", None), ("edit", 1, None), ("rule", 1.0, None),
+    (Anything(), MAIL), (Anything(), 5, "hot"), (Anything(), 5, True),
 )
 WRONG_NUMBERS = (0, -1, MOST + 1, True, False, None, "1", 1.0, (1,))
 WRONG_NAMES = ("", "Ann", "abcdefghi", "a b", "a1", None, 5, b"ann", ("ann",), True)

@@ -14,7 +14,7 @@ from filedalike.papers import search
 from filedalike.query import Among, At, Bears, Every, From, Not, Says, Seen, Stands
 from filedalike.strata import RingThroughLacks
 from tests.housemodel import random_events
-from tests.models import random_ground, random_rule, rule_row
+from tests.models import random_book_text, random_ground, random_rule, rule_row
 from tests.querymodel import random_query, slow_search
 
 GROUND = "mark hot by hand\nmark new\nstanding vip\nstanding big by hand\ntest word x"
@@ -130,6 +130,44 @@ class Deeds(unittest.TestCase):
             desk.edit(book_of("rule always mark new if not thread new"))
         self.assertEqual(desk.house.summary(), before)
         self.check(desk)
+
+    def test_trials_of_the_house(self):
+        desk = new_desk()
+        desk.play([("letter", mail(5)), ("letter", mail(7, 5)), ("letter", mail(9)), ("mark", 5, "hot")])
+        other = book_of("rule always mark new if not thread hot")
+
+        def found(house):
+            self.check(desk)
+            return desk.find(Bears("new")), house.tried(book_of(), lambda asked: desk.find(Bears("new")))
+
+        self.assertEqual(desk.house.tried(other, found), ([9], []))
+        with self.assertRaises(ZeroDivisionError):
+            desk.house.tried(other, lambda house: 1 // 0)
+        self.assertEqual(desk.find(Bears("new")), [5, 7])
+        self.check(desk)
+        desk.come(mail(11, 9))
+        desk.put(11, "hot")
+        self.assertEqual(desk.find(Bears("new")), [5, 7, 9, 11])
+        self.check(desk)
+
+    def test_deeds_in_any_order(self):
+        rng = random.Random(172)
+        many = 0
+        for _ in range(80):
+            book = Book.read(random_book_text(rng, "always"))
+            if book.ring is not None or not book.rules:
+                continue
+            many += 1
+            desk = Desk(book)
+            desk.play(random_events(rng, book, 20))
+            deeds = desk.house.deeds()
+            rng.shuffle(deeds)
+            other = Desk(book)
+            other.play(deeds)
+            self.assertEqual(other.house.summary(), desk.house.summary())
+            for query in QUERIES + (random_query(rng, 4),):
+                self.assertEqual(other.find(query), desk.find(query))
+        self.assertTrue(many > 20)
 
     def test_plays(self):
         desk = new_desk()

@@ -292,6 +292,21 @@ class Houses(unittest.TestCase):
         self.assertEqual(device.book, book_of(FREE, "rule always mark b if thread a"))
 
 
+    def test_deeds_of_new_houses_in_any_order(self):
+        rng = random.Random(124)
+        for _ in range(40):
+            book, *ground = random_free_book(rng)
+            device = Device("a", book)
+            device.receive(random_deeds(rng, book, ground, 12))
+            house = device.new_house()
+            deeds = house.deeds()
+            rng.shuffle(deeds)
+            other = House(device.book)
+            other.play(deeds)
+            self.assertEqual(other.summary(), device.summary()[3])
+            self.assertEqual(other.deeds(), house.deeds())
+
+
 class AtRandom(unittest.TestCase):
     def test_parcels_in_any_order(self):
         rng = random.Random(122)

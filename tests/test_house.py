@@ -281,6 +281,24 @@ class Plays(unittest.TestCase):
         self.assertEqual(caught.exception.name, "nowhere")
 
 
+class ChangedNumbers(unittest.TestCase):
+    def test_letters_whose_marks_the_latest_deed_changed(self):
+        house = House(book_of("rule always mark a if thread c", "rule coming mark b if test 1"))
+        self.assertEqual(house.changed_numbers(), [])
+        house.come(letter(9))
+        self.assertEqual(house.changed_numbers(), [])
+        house.come(letter(7, 9, words=["x"]))
+        self.assertEqual(house.changed_numbers(), [7])
+        house.put(9, "c")
+        self.assertEqual(house.changed_numbers(), [7, 9])
+        house.put(20, "c")
+        self.assertEqual(house.changed_numbers(), [])
+        house.edit(book_of())
+        self.assertEqual(house.changed_numbers(), [7, 9])
+        house.changed_numbers().clear()
+        self.assertEqual(house.changed_numbers(), [7, 9])
+
+
 class Edits(unittest.TestCase):
     FIRST = ("rule coming mark a if test 1", "rule always mark b if thread a")
     SECOND = ("rule always mark c if thread a, test 2", "rule coming mark b if not thread b")
