@@ -23,7 +23,8 @@ def filled():
     desk = Desk(Book.read(TEXT))
     desk.play([
         mail(9, 4, words=["x"]), mail(5, 4, person="bob", words=["x"]), mail(7),
-        mail(20, person="abcdefgh", home="abcdefgh"), ("mark", 9, "hot"), ("mark", 5, "abcdefgh"), ("mark", 7, "hot"), ("mark", 30, "hot"),
+        mail(20, person="abcdefgh", home="abcdefgh"), ("mark", 9, "hot"), ("mark", 5, "abcdefgh"),
+        ("mark", 7, "hot"), ("mark", 30, "hot"),
         ("seen", 9, True, 1, "d"), ("seen", 30, False, 1, "d"), ("seen", 5, False, 1, "d"),
     ])
     return desk

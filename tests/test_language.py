@@ -1,4 +1,4 @@
-"""Rules of the language that a test can see (L1, L7, L10, L14, L23), and where the names of the interface are defined."""
+"""Rules of the language that a test can see (L1, L7, L10, L14, L23), and where the interface is defined."""
 
 import ast
 import pathlib
