@@ -44,10 +44,14 @@ class Had:
 
     def written(self):
         """The text of the set."""
-        texts = {device: [] for device, _, _ in self.rows}
+        parts = []
+        before = None
         for device, first, last in self.rows:
-            texts[device].append(str(first) if first == last else f"{first}-{last}")
-        return "; ".join([f"{device} " + ",".join(texts[device]) for device in texts])
+            stretch = str(first) if first == last else f"{first}-{last}"
+            parts.append(f",{stretch}" if device == before else f"; {device} {stretch}")
+            before = device
+        # Each device has "; " before it, which the first one drops.
+        return "".join(parts)[2:]
 
     def many(self):
         """The number of pairs."""

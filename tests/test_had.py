@@ -123,6 +123,35 @@ class Texts(unittest.TestCase):
             self.assertEqual(Had.of(rows).written(), text)
             self.assertEqual(Had.read(text).rows, Had.of(rows).rows)
 
+    def test_texts_of_one_device_and_of_several(self):
+        for rows, text in (
+            ([("ann", 7, 7)], "ann 7"),
+            ([("ann", 7, 9)], "ann 7-9"),
+            ([("ann", 9, 9), ("ann", 7, 7), ("ann", 1, 1)], "ann 1,7,9"),
+            ([("ann", 9, 12), ("ann", 1, 3), ("ann", 5, 7)], "ann 1-3,5-7,9-12"),
+            ([("ann", 9, 9), ("ann", 1, 3), ("ann", 5, 5), ("ann", 11, 12)], "ann 1-3,5,9,11-12"),
+            ([("bob", 1, 1), ("ann", 1, 1)], "ann 1; bob 1"),
+            ([("bob", 1, 2), ("ann", 1, 2)], "ann 1-2; bob 1-2"),
+            ([("bob", 2, 2), ("ann", 4, 4), ("ann", 2, 3), ("ann", 7, 7)], "ann 2-4,7; bob 2"),
+            ([("cy", 3, 3), ("cy", 5, 6), ("ann", 3, 3), ("bob", 3, 3), ("bob", 1, 1)], "ann 3; bob 1,3; cy 3,5-6"),
+        ):
+            had = Had.of(rows)
+            for _ in range(2):
+                self.assertEqual(had.written(), text)
+            self.assertEqual(Had.read(text), had)
+            self.assertEqual(had, Had.of(rows))
+
+    def test_texts_against_a_plain_writing(self):
+        rng = random.Random(107)
+        for _ in range(300):
+            pairs = random_pairs(rng)
+            texts = []
+            for device in sorted({device for device, _ in pairs}):
+                rows = rows_of({pair for pair in pairs if pair[0] == device})
+                stretches = ",".join(f"{first}" if first == last else f"{first}-{last}" for _, first, last in rows)
+                texts.append(f"{device} {stretches}")
+            self.assertEqual(Had(list(pairs)).written(), "; ".join(texts))
+
     def test_reading_what_was_written(self):
         rng = random.Random(106)
         for _ in range(200):
